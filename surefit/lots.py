@@ -141,12 +141,20 @@ def hoped_pairs(lot, state):
     return choice_of_hoped(lot, state)
 
 
+def has_sure(lot, ranges, many):
+    """Whether so many pairs surely fit with these ranges, no two of them with a common part."""
+    return len(choice_of_sure(lot, ranges)) >= many
+
+
+def is_settled(lot, ranges, many):
+    """Whether so many pairs surely fit with these ranges, or not so many can fit."""
+    return has_sure(lot, ranges, many) or len(choice_of_hoped(lot, ranges)) < many
+
+
 def verdict(lot, state, many):
     """True if so many pairs surely fit, False if not so many can fit, None if this is not settled."""
     check_state(lot, state)
     check_many(many)
-    if len(choice_of_sure(lot, state)) >= many:
-        return True
-    if len(choice_of_hoped(lot, state)) < many:
-        return False
-    return None
+    if not is_settled(lot, state, many):
+        return None
+    return has_sure(lot, state, many)

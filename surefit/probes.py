@@ -42,11 +42,19 @@ def parted_range(span, test):
     return [(size, size) for size in range(first, last + 1)]
 
 
+def with_item(items, at, item):
+    """This tuple with another item in one place."""
+    return items[:at] + (item,) + items[at + 1:]
+
+
 def outcomes(ranges, test):
     """The results of a test that is possible with these ranges, in order."""
     part = test[1]
-    before, after = ranges[:part], ranges[part + 1:]
-    return [before + (span,) + after for span in parted_range(ranges[part], test)]
+    return [with_item(ranges, part, span) for span in parted_range(ranges[part], test)]
+
+
+def test_price(lot, test):
+    return lot.prices[0] if test[0] == "gauge" else lot.prices[1]
 
 
 def all_tests(lot, state):

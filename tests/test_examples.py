@@ -13,6 +13,52 @@ LOTS_AND_PROBES = """
 [[[], [(0, 1)], [(0, 1)]], [None, False], False, [('gauge', 0, 5), ('gauge', 1, 7), ('gauge', 2, 9)], [((4, 5), (6, 6), (8, 9)), ((4, 5), (7, 7), (8, 9))]]
 """
 
+PLANS = """
+>>> from surefit.lots import Lot
+>>> from surefit.plans import Plan, Stuck, plan, plan_cost
+>>> two, shut = [Lot(((4, 5),), ((6, 7), (8, 9)), (3, 3), gauges, (1, None)) for gauges in ((5, 7, 9), (5,))]
+>>> dear = Lot(((4, 5),), ((6, 7), (8, 9)), (3, 3), (5,), (1, 3))
+>>> start, small = two.start(), ((4, 4), (6, 7), (8, 9))
+>>> tree = (('gauge', 0, 5), ((('gauge', 1, 7), (None, None)), (('gauge', 2, 9), (None, None))))
+>>> levels = {start: 2, small: 1, ((4, 5), (7, 7), (8, 9)): 1, ((4, 5), (6, 7), (8, 8)): 1}
+>>> shown = [Plan(2, tree, levels).shows(two, start, 1), Plan(2, tree, {}).shows(two, start, 1), Plan(1, tree, levels).shows(two, start, 1), Stuck([start, small]).shows(shut, start, 1), Stuck([start]).shows(shut, start, 1)]
+>>> [[plan_cost(lot, start, 1) for lot in (two, shut, dear)], plan_cost(two, start, 2), shown, plan(dear, start, 1).shows(dear, start, 1)]
+[[2, None, 4], 0, [True, False, False, True, False], True]
+"""
+
+BATCHES = """
+>>> from surefit.batches import Batch, NoBatch, batch, batch_cost
+>>> from surefit.lots import Lot
+>>> from surefit.plans import plan_cost
+>>> two, shut = [Lot(((4, 5),), ((6, 7), (8, 9)), (3, 3), gauges, (1, None)) for gauges in ((5, 7, 9), (5,))]
+>>> tests, start, leaf = [('gauge', 0, 5), ('gauge', 1, 7), ('gauge', 2, 9)], two.start(), ('price', None, None)
+>>> shut_out = [('open', ((4, 5), (7, 7), (8, 8)), None), ('open', ((4, 4), (6, 7), (8, 8)), None), ('open', ((5, 5), (6, 6), (8, 9)), None)]
+>>> tree = (tests[0], (tests[1], (tests[2], leaf, shut_out[2]), shut_out[1]), shut_out[0])
+>>> shown = [Batch(tests, tree).shows(two, start, 1), Batch(tests[:2], tree).shows(two, start, 1), Batch(tests, leaf).shows(two, start, 1), NoBatch(((4, 4), (6, 7), (8, 9))).shows(shut, start, 1)]
+>>> [batch_cost(two, start, 1), plan_cost(two, start, 1), batch_cost(shut, start, 1), shown, batch(two, start, 1).shows(two, start, 1)]
+[3, 2, None, [True, False, False, True], True]
+"""
+
+GAUGES = """
+>>> from surefit.gauges import best_gauge, gauge_costs, more_gauges
+>>> from surefit.lots import Lot
+>>> shut = Lot(((4, 5),), ((6, 7), (8, 9)), (3, 3), (5,), (1, None))
+>>> [gauge_costs(shut, shut.start(), 1), best_gauge(shut, shut.start(), 1), more_gauges(shut, shut.start(), 1).shows(shut, shut.start(), 1)]
+[{7: None, 9: None}, None, True]
+"""
+
+GRINDS = """
+>>> from surefit.grinds import Make, make, make_cost, moves
+>>> from surefit.lots import Lot
+>>> tight = Lot(((4, 5),), ((6, 6),), (2, 2), (5,), (1, None))
+>>> fine = (((4, 5), (6, 6)), (0, 0))
+>>> grind = (('gauge', 0, 5), (None, (('grind', 0), (None,))))
+>>> levels = {fine: 4, (((5, 5), (6, 6)), (0, 0)): 3, (((4, 5), (7, 7)), (0, 1)): 1, (((3, 4), (6, 6)), (1, 0)): 1}
+>>> shown = [Make(4, grind, levels).shows(tight, fine, 1, 3), Make(3, grind, levels).shows(tight, fine, 1, 3), Make(4, grind, {}).shows(tight, fine, 1, 3)]
+>>> [moves(tight, fine), [make_cost(tight, fine, 1, fee) for fee in (1, 3)], shown, make_cost(tight, fine, 2, 1), make(tight, fine, 2, 1).shows(tight, fine, 2, 1)]
+[[('gauge', 0, 5), ('grind', 0), ('grind', 1)], [2, 4], [True, False, False], None, True]
+"""
+
 
 class Examples(unittest.TestCase):
 
@@ -25,6 +71,18 @@ class Examples(unittest.TestCase):
 
     def test_lots_and_probes(self):
         self.holds(LOTS_AND_PROBES)
+
+    def test_plans(self):
+        self.holds(PLANS)
+
+    def test_batches(self):
+        self.holds(BATCHES)
+
+    def test_gauges(self):
+        self.holds(GAUGES)
+
+    def test_grinds(self):
+        self.holds(GRINDS)
 
 
 if __name__ == "__main__":

@@ -6,7 +6,7 @@ from itertools import product
 from surefit.errors import BadLot, BadState, BadTest
 from surefit.lots import Lot
 from surefit.probes import all_tests, results
-from tests.samples import STRANGE, all_states, lot_with, sizes_in
+from tests.samples import STRANGE, all_states, lot_with, slow_results, slow_tests
 
 MEASURED = {"gauges": (5, 7, 9), "prices": (1, 3)}
 
@@ -24,25 +24,6 @@ WRONG_TESTS = [
     ("Measure", 0), ("measures", 0), ("grind", 0), ("price", None, None), ("gauge", {}, 5), ("measure", {}),
     ("measure", object()), {"measure": 0}, "measure", 0,
 ]
-
-
-def slow_results(state, test):
-    """The results of a test, from the lists of all sizes of its part that it can tell of."""
-    part, sizes = test[1], list(sizes_in(state[test[1]]))
-    if test[0] == "gauge":
-        told = [[size for size in sizes if size < test[2]], [size for size in sizes if size >= test[2]]]
-    else:
-        told = [[size] for size in sizes]
-    return [tuple((group[0], group[-1]) if at == part else span for at, span in enumerate(state))
-            for group in told if group]
-
-
-def slow_tests(lot, state):
-    """All tests that can have more than one result."""
-    parts = range(len(state))
-    tests = [("measure", part) for part in parts if lot.prices[1] is not None]
-    tests += [("gauge", part, size) for part, size in product(parts, lot.gauges)]
-    return sorted(test for test in tests if len(slow_results(state, test)) > 1)
 
 
 class AllTests(unittest.TestCase):

@@ -5,9 +5,7 @@ from itertools import product
 
 from surefit.errors import BadLot, BadMany, BadState
 from surefit.lots import Lot, hoped_pairs, sure_pairs, verdict
-from tests.samples import STRANGE, all_states, first_longest, fitting, lot_with, slow_verdict
-
-WRONG_MANY = [0, 4, -1, 10 ** 30, True, False, None, "1", (1,), [1], {}, object()]
+from tests.samples import STRANGE, WRONG_MANY, all_states, first_longest, fitting, lot_with, slow_verdict
 
 WRONG_STATES = [
     (), ((4, 5),), ((4, 5), (6, 7)), ((4, 5), (6, 7), (8, 9), (8, 9)),
