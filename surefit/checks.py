@@ -6,6 +6,7 @@ MOST_PARTS = 3
 GREATEST_GAP = 9
 MOST_GAUGES = 4
 GREATEST_PRICE = 9
+MOST_IN_TURN = 12
 
 
 def is_integer(value):
@@ -57,3 +58,15 @@ def is_prices(value):
     if not is_pair(value) or not is_integer_within(value[0], 1, GREATEST_PRICE):
         return False
     return value[1] is None or is_integer_within(value[1], 1, GREATEST_PRICE)
+
+
+def are_sizes_within(value, ranges):
+    """Whether this is a tuple with a size for each of these ranges, within it."""
+    if not isinstance(value, tuple) or len(value) != len(ranges):
+        return False
+    return all([is_integer_within(size, first, last) for size, (first, last) in zip(value, ranges)])
+
+
+def is_short_sequence(value):
+    """Whether this is a list or tuple with no more items than tests can be given at once, to be made in turn."""
+    return isinstance(value, (list, tuple)) and len(value) <= MOST_IN_TURN

@@ -29,8 +29,12 @@ def is_like_test(test):
     return all([is_integer(item) for item in test[1:]])
 
 
+def is_possible_test(lot, ranges, test):
+    return is_like_test(test) and test in possible_tests(lot, ranges)
+
+
 def check_test(lot, state, test):
-    if not is_like_test(test) or test not in possible_tests(lot, state):
+    if not is_possible_test(lot, state, test):
         raise BadTest("not a test that is possible in the state")
 
 
@@ -51,6 +55,13 @@ def outcomes(ranges, test):
     """The results of a test that is possible with these ranges, in order."""
     part = test[1]
     return [with_item(ranges, part, span) for span in parted_range(ranges[part], test)]
+
+
+def outcome_index(ranges, test, sizes):
+    """The index of that result of a test in which these sizes are, which are within the ranges."""
+    part = test[1]
+    spans = parted_range(ranges[part], test)
+    return [first <= sizes[part] <= last for first, last in spans].index(True)
 
 
 def test_price(lot, test):

@@ -7,12 +7,36 @@ from surefit.lots import Lot
 
 GOOD = {"pins": ((4, 5),), "bores": ((6, 7), (8, 9)), "gap": (3, 3), "gauges": (5, 7, 9), "prices": (1, None)}
 
+
+class Alike:
+    """Equal to everything."""
+
+    __hash__ = object.__hash__
+
+    def __eq__(self, other):
+        return True
+
+
+class Unable:
+    """Not to be compared, measured, iterated over, hashed, or asked whether it is true."""
+
+    def unable(self, *_):
+        raise RuntimeError("nothing of this should have been asked for")
+
+    __eq__ = __ne__ = __lt__ = __le__ = __gt__ = __ge__ = __hash__ = __bool__ = __len__ = __iter__ = __int__ = unable
+    __contains__ = __getitem__ = __index__ = unable
+
+
 # Whatever the argument is: none of these is a lot, a state, a test, a number or a parameter of a lot.
 STRANGE = [None, True, False, -1, 31, 10 ** 30, "", "gauge", b"gauge", [], {}, set(), frozenset(), object(), int, len,
-           (None,), ((),), ([],), ({},), ("",), (b"",), (True,), (object(),), ((None, None),), (("4", "5"),)]
+           (None,), ((),), ([],), ({},), ("",), (b"",), (True,), (object(),), ((None, None),), (("4", "5"),),
+           Alike(), Unable(), (Alike(),), (Unable(),), (Alike(), Alike()), (Unable(), Unable()),
+           ("gauge", Alike(), 5), ("gauge", 0, Unable()), (Alike(), 0, 5), (Unable(), 0, 5),
+           ((4, 5), (6, 7), Alike()), ((4, 5), (6, 7), Unable()), ((4, 5), (6, 7), (8, Alike())),
+           ((4, 5), (6, Unable()), (8, 9))]
 
 # Whatever the lot and the state are: none of these is a number of pairs.
-WRONG_MANY = [0, 4, -1, 10 ** 30, True, False, None, "1", (1,), [1], {}, object()]
+WRONG_MANY = [0, 4, -1, 10 ** 30, True, False, None, "1", (1,), [1], {}, object(), Alike(), Unable()]
 
 
 def lot_with(**changes):
@@ -226,3 +250,67 @@ def changed_proofs(tree, tests, results):
         if tree[0] not in ("price", "open"):
             for changed in changed_proofs(tree[at], tests, results):
                 yield tree[:at] + (changed,) + tree[at + 1:]
+
+
+def slow_next_test(lot, state, many, inspector):
+    """The test that an inspector makes, by the words of the document."""
+    tests = slow_tests(lot, state)
+    if not tests or slow_verdict(lot, state, many) is not None:
+        return None
+
+    def most(test):
+        return max(len(sizes_in(result[test[1]])) for result in slow_results(state, test))
+
+    if inspector == "even":
+        return next(test for test in tests if most(test) == min(map(most, tests)))
+    if inspector == "cheap":
+        least = min(slow_price(lot, test) for test in tests)
+        return next(test for test in tests if slow_price(lot, test) == least)
+    if inspector == "wide":
+        parts = sorted({test[1] for test in tests})
+        greatest = max(len(sizes_in(state[part])) for part in parts)
+        part = next(part for part in parts if len(sizes_in(state[part])) == greatest)
+        return ("measure", part) if lot.prices[1] else next(test for test in tests if test[1] == part)
+    return tests[0]
+
+
+def slow_result_index(state, test, sizes):
+    """The index of the result of a test in which the sizes are."""
+    return next(index for index, result in enumerate(slow_results(state, test))
+                if sizes[test[1]] in sizes_in(result[test[1]]))
+
+
+def slow_walk(lot, state, many, inspector, sizes):
+    """What an inspector pays with these sizes, and the state in which it ends."""
+    cost = 0
+    while (test := slow_next_test(lot, state, many, inspector)) is not None:
+        cost += slow_price(lot, test)
+        state = slow_results(state, test)[slow_result_index(state, test, sizes)]
+    return cost, state
+
+
+def all_sizes(state):
+    return list(product(*[sizes_in(span) for span in state]))
+
+
+def slow_worst_cost(lot, state, many, inspector):
+    """The greatest sum of prices over all sizes, None if the inspector can end in a state that is not settled."""
+    ways = [slow_walk(lot, state, many, inspector, sizes) for sizes in all_sizes(state)]
+    if any(slow_verdict(lot, end, many) is None for _, end in ways):
+        return None
+    return max(cost for cost, _ in ways)
+
+
+def slow_heights(heights, lot, start, many, inspector, total):
+    """Whether heights are right, by the words of the document."""
+    if start not in heights or heights[start] > total or any(height < 0 for height in heights.values()):
+        return False
+    for state in heights:
+        if slow_verdict(lot, state, many) is None:
+            test = slow_next_test(lot, state, many, inspector)
+            if test is None:
+                return False
+            for result in slow_results(state, test):
+                if result not in heights or heights[result] + slow_price(lot, test) > heights[state]:
+                    return False
+    return True

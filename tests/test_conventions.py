@@ -1,4 +1,4 @@
-"""Point 1: what holds for all functions and classes, and the limits of the files of the package."""
+"""The names and parameters of the interface, and the limits of the files of the package."""
 
 import ast
 import inspect
@@ -6,14 +6,9 @@ import unittest
 from pathlib import Path
 
 import surefit
-from surefit import batches, errors, gauges, grinds, lots, plans, probes
-from surefit.batches import batch
-from surefit.gauges import gauge_costs, more_gauges
-from surefit.grinds import make, moves
-from surefit.lots import Lot, hoped_pairs, sure_pairs
-from surefit.plans import plan
-from surefit.probes import all_tests, results
-from tests.samples import lot_with
+from surefit import batches, errors, gauges, grinds, inspectors, logs, lots, plans, probes, sessions, texts
+from surefit.lots import Lot
+from surefit.probes import results
 
 FOLDER = Path(surefit.__file__).parent
 
@@ -29,57 +24,33 @@ INTERFACE = {
              "best_gauge": ["lot", "state", "many"], "Gauges": ["rows"]},
     grinds: {"make": ["lot", "position", "many", "fee"], "make_cost": ["lot", "position", "many", "fee"],
              "moves": ["lot", "position"], "Make": ["bound", "tree", "levels"], "Unmade": ["spots"]},
+    inspectors: {"next_test": ["lot", "state", "many", "inspector"], "judge": ["lot", "state", "many", "inspector"],
+                 "worst_cost": ["lot", "state", "many", "inspector"], "Ends": ["total", "sizes", "heights"],
+                 "Quits": ["sizes"]},
+    logs: {"after_log": ["lot", "state", "log"], "spent": ["lot", "state", "log"],
+           "ruled_out": ["lot", "state", "log"]},
+    sessions: {"Session": ["lot", "sizes"]},
+    texts: {"lot_text": ["lot"], "state_text": ["lot", "state"], "read_lot": ["text"], "read_state": ["lot", "text"]},
     errors: {"BadLot": ["part"], "BadTests": ["index"], "BadLog": ["index"], "BadText": ["row"]},
 }
 
-# What the classes themselves must define, and the parameters of `shows`.
+# What the classes themselves must define, each with the parameters behind `self`; None for a property.
+STATE, POSITION = ["lot", "state", "many"], ["lot", "position", "many", "fee"]
 METHODS = {
-    plans.Plan: ["__init__", "__eq__", "shows"], plans.Stuck: ["__init__", "__eq__", "__iter__", "shows"],
-    batches.Batch: ["__init__", "__eq__", "__iter__", "shows"], batches.NoBatch: ["__init__", "__eq__", "shows"],
-    gauges.Gauges: ["__init__", "__eq__", "__iter__", "shows"],
-    grinds.Make: ["__init__", "__eq__", "shows"], grinds.Unmade: ["__init__", "__eq__", "__iter__", "shows"],
+    lots.Lot: {"pins": None, "bores": None, "gap": None, "gauges": None, "prices": None, "__len__": [],
+               "__eq__": ["other"], "start": []},
+    plans.Plan: {"__eq__": ["other"], "shows": STATE},
+    plans.Stuck: {"__eq__": ["other"], "__iter__": [], "shows": STATE},
+    batches.Batch: {"__eq__": ["other"], "__iter__": [], "shows": STATE},
+    batches.NoBatch: {"__eq__": ["other"], "shows": STATE},
+    gauges.Gauges: {"__eq__": ["other"], "__iter__": [], "shows": STATE},
+    grinds.Make: {"__eq__": ["other"], "shows": POSITION},
+    grinds.Unmade: {"__eq__": ["other"], "__iter__": [], "shows": POSITION},
+    inspectors.Ends: {"__eq__": ["other"], "shows": STATE + ["inspector"]},
+    inspectors.Quits: {"__eq__": ["other"], "shows": STATE + ["inspector"]},
+    sessions.Session: {"known": None, "journal": None, "__len__": [], "__iter__": [], "test": ["test"], "paid": [],
+                       "undo": [], "branch": [], "trial": [], "tried": ["tests"]},
 }
-
-
-class Lists(unittest.TestCase):
-
-    def test_every_returned_list_is_new(self):
-        lot = lot_with(gap=(-9, 9), prices=(1, 2))
-        state = lot.start()
-        calls = [lambda: sure_pairs(lot, state), lambda: hoped_pairs(lot, state), lambda: all_tests(lot, state),
-                 lambda: results(lot, state, ("gauge", 1, 7)), lambda: results(lot, state, ("measure", 1))]
-        for call in calls:
-            found = call()
-            self.assertIs(found.__class__, list)
-            self.assertNotEqual(found, [])
-            kept = list(found)
-            found.clear()
-            self.assertEqual(call(), kept)
-            self.assertIsNot(call(), call())
-
-    def test_every_returned_list_or_dict_of_an_answer_is_new(self):
-        lot, shut = lot_with(), lot_with(gauges=(5,))
-        state, position = lot.start(), (lot.start(), (0, 0, 0))
-        calls = [lambda: plan(lot, state, 1).levels, lambda: plan(shut, state, 1).states,
-                 lambda: batch(lot, state, 1).tests, lambda: more_gauges(shut, state, 1).rows,
-                 lambda: gauge_costs(shut, state, 1), lambda: make(Lot(((4, 4),), ((5, 5),), (2, 2), (), (1, None)),
-                                                                   (((4, 4), (5, 5)), (0, 0)), 1, 1).levels,
-                 lambda: make(Lot(((4, 4),), ((5, 5),), (9, 9), (), (1, None)), (((4, 4), (5, 5)), (0, 0)), 1, 1).spots,
-                 lambda: moves(lot, position)]
-        for call in calls:
-            found = call()
-            self.assertIn(found.__class__, (list, dict))
-            kept = found.copy()
-            self.assertTrue(kept)
-            found.clear()
-            self.assertTrue(call() == kept)
-
-    def test_groups_of_a_fixed_size_are_tuples(self):
-        lot = lot_with(gap=(-9, 9), prices=(1, 2))
-        found = sure_pairs(lot, lot.start()) + hoped_pairs(lot, lot.start()) + all_tests(lot, lot.start())
-        states = [lot.start()] + results(lot, lot.start(), ("gauge", 1, 7)) + results(lot, lot.start(), ("measure", 1))
-        for group in found + states + [span for state in states for span in state]:
-            self.assertIs(group.__class__, tuple)
 
 
 class Interface(unittest.TestCase):
@@ -93,14 +64,17 @@ class Interface(unittest.TestCase):
                     self.assertEqual(list(inspect.signature(found).parameters), parameters)
 
     def test_what_the_classes_themselves_define(self):
-        for found, names in METHODS.items():
-            for name in names:
+        for found, methods in METHODS.items():
+            self.assertIn("__init__", vars(found))
+            for name, parameters in methods.items():
                 with self.subTest(found=found.__name__, name=name):
-                    self.assertIn(name, vars(found))
-            wanted = ["self", "lot", "state", "many"]
-            if found in (grinds.Make, grinds.Unmade):
-                wanted = ["self", "lot", "position", "many", "fee"]
-            self.assertEqual(list(inspect.signature(found.shows).parameters), wanted)
+                    if parameters is None:
+                        self.assertIs(vars(found)[name].__class__, property)
+                    else:
+                        self.assertEqual(list(inspect.signature(vars(found)[name]).parameters)[1:], parameters)
+
+    def test_the_words_of_the_inspectors(self):
+        self.assertEqual(inspectors.INSPECTORS, ("first", "cheap", "even", "wide"))
 
     def test_arguments_by_name(self):
         lot = Lot(prices=(1, None), gauges=(5,), gap=(3, 3), bores=((6, 7),), pins=((4, 5),))

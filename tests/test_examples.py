@@ -59,6 +59,31 @@ GRINDS = """
 [[('gauge', 0, 5), ('grind', 0), ('grind', 1)], [2, 4], [True, False, False], None, True]
 """
 
+INSPECTORS = """
+>>> from surefit.inspectors import Ends, Quits, judge, next_test, worst_cost
+>>> from surefit.lots import Lot
+>>> two, shut = [Lot(((4, 5),), ((6, 7), (8, 9)), (3, 3), gauges, (1, None)) for gauges in ((5, 7, 9), (5,))]
+>>> start, small, great = two.start(), ((4, 4), (6, 7), (8, 9)), ((5, 5), (6, 7), (8, 9))
+>>> shown = [Quits((4, 6, 8)).shows(shut, start, 1, 'first'), Quits((5, 6, 8)).shows(two, start, 1, 'first'), judge(two, start, 1, 'first').shows(two, start, 1, 'first')]
+>>> [[next_test(two, state, 1, 'first') for state in (start, small, great)], [worst_cost(two, start, 1, inspector) for inspector in ('first', 'cheap', 'even', 'wide')], worst_cost(shut, start, 1, 'first'), shown]
+[[('gauge', 0, 5), ('gauge', 1, 7), ('gauge', 1, 7)], [3, 3, 3, 3], None, [True, False, True]]
+"""
+
+LOGS_SESSIONS_AND_TEXTS = r"""
+>>> from surefit.logs import after_log, ruled_out, spent
+>>> from surefit.lots import Lot
+>>> from surefit.sessions import Session
+>>> from surefit.texts import lot_text, read_lot, read_state, state_text
+>>> lot = Lot(((4, 5),), ((6, 7), (8, 9)), (-1, 3), (5, 7), (1, 3))
+>>> session = Session(lot, (5, 6, 9))
+>>> found = [session.test(('gauge', 0, 5)), session.known, session.tried([('gauge', 1, 7), ('measure', 2)]), session.test(('measure', 2)), session.paid(), list(session), session.undo(), len(session)]
+>>> log = [(('gauge', 0, 5), 1), (('measure', 2), 0)]
+>>> facts = [after_log(lot, lot.start(), log), spent(lot, lot.start(), log), ruled_out(lot, lot.start(), log)]
+>>> texts = [lot_text(lot), state_text(lot, ((5, 5), (6, 7), (8, 8))), read_state(lot, '4 5\n6 6\n8 9\n'), read_lot(lot_text(lot)) == lot]
+>>> [found, facts, texts]
+[[1, ((5, 5), (6, 7), (8, 9)), [0, 1], 1, 4, [(('gauge', 0, 5), 1), (('measure', 2), 1)], (('measure', 2), 1), 1], [((5, 5), (6, 7), (8, 8)), [1, 3], [1, 0, 1]], ['pin 4 5\nbore 6 7\nbore 8 9\ngap -1 3\ngauges 5 7\nprices 1 3\n', '5 5\n6 7\n8 8\n', ((4, 5), (6, 6), (8, 9)), True]]
+"""
+
 
 class Examples(unittest.TestCase):
 
@@ -83,6 +108,12 @@ class Examples(unittest.TestCase):
 
     def test_grinds(self):
         self.holds(GRINDS)
+
+    def test_inspectors(self):
+        self.holds(INSPECTORS)
+
+    def test_logs_sessions_and_texts(self):
+        self.holds(LOGS_SESSIONS_AND_TEXTS)
 
 
 if __name__ == "__main__":
